@@ -1,0 +1,1 @@
+"""Markcounts: boards of marks with told counts for each row and each column."""

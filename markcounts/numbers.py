@@ -1,0 +1,77 @@
+"""The boards that have counts, in their order: how many they are, and their numbers from nought."""
+
+from markcounts.boards import counts, need_counts
+from markcounts.errors import NoNumber
+
+
+def row_choices(width, marks):
+    """All rows of so many cells and marks, in the order of the boards."""
+    if marks < 0 or marks > width:
+        return []
+    if width == 0:
+        return [[]]
+    unmarked = [[0] + rest for rest in row_choices(width - 1, marks)]
+    marked = [[1] + rest for rest in row_choices(width - 1, marks - 1)]
+    return unmarked + marked
+
+
+def columns_behind(columns, row):
+    """The marks that the columns still want behind this row."""
+    return [wanted - cell for wanted, cell in zip(columns, row)]
+
+
+def boards_left(rows, columns, known):
+    """How many ways there are to fill these rows, none left as well, so that the columns come out."""
+    if min(columns) < 0:
+        return 0
+    if len(rows) == 0:
+        return 1 if max(columns) == 0 else 0
+    # Exchanging columns changes no number of ways, so one answer serves all their orders.
+    key = (len(rows), tuple(sorted(columns)))
+    if key not in known:
+        choices = row_choices(len(columns), rows[0])
+        known[key] = sum([boards_left(rows[1:], columns_behind(columns, row), known) for row in choices])
+    return known[key]
+
+
+def many(rows, columns):
+    """How many boards have these counts."""
+    need_counts(rows, columns)
+    return boards_left(rows, columns, {})
+
+
+def rows_at(rows, columns, number, known):
+    """The rows of the board with this number, which is nought or more."""
+    if len(rows) == 0:
+        return []
+    for row in row_choices(len(columns), rows[0]):
+        behind = columns_behind(columns, row)
+        ways = boards_left(rows[1:], behind, known)
+        if number < ways:
+            return [row] + rows_at(rows[1:], behind, number, known)
+        number = number - ways
+    raise NoNumber("no board has so high a number")
+
+
+def board_at(rows, columns, number):
+    """The board of this number among those that have the counts."""
+    need_counts(rows, columns)
+    if number < 0:
+        raise NoNumber("no board has a number below nought")
+    return rows_at(rows, columns, number, {})
+
+
+def number_of(board):
+    """The number of the board among those that have its counts."""
+    told = counts(board)
+    rows = told[0]
+    columns = told[1]
+    known = {}
+    number = 0
+    for place, row in enumerate(board):
+        for choice in row_choices(len(columns), rows[place]):
+            # A lesser row at the first row that differs puts all boards with it ahead of this one.
+            if choice < row:
+                number = number + boards_left(rows[place + 1:], columns_behind(columns, choice), known)
+        columns = columns_behind(columns, row)
+    return number

@@ -1,0 +1,125 @@
+"""What the tests share: a case that knows refusals, and boards gone through one by one."""
+
+import itertools
+import unittest
+
+from markcounts import errors
+
+KINDS = (
+    errors.NoBoard,
+    errors.NoCounts,
+    errors.NoNumber,
+    errors.NoneSuch,
+    errors.NoExchange,
+    errors.NotAlike,
+)
+
+
+class Case(unittest.TestCase):
+    def refused(self, kind, ask, *given):
+        with self.assertRaises(errors.MarkError) as caught:
+            ask(*given)
+        error = caught.exception
+        self.assertIsInstance(error, ValueError)
+        self.assertEqual([k for k in KINDS if isinstance(error, k)], [kind])
+        for word in error.args:
+            self.assertIsInstance(word, str, "an error keeps nothing that was handed in")
+
+
+NO_BOARDS = (
+    [],
+    [[]],
+    [[], []],
+    [[1], []],
+    [[], [1]],
+    [[0, 1]] * 7,
+    [[0, 1]] * 8,
+    [[0] * 7],
+    [[0] * 8],
+    [[0] * 7] * 7,
+    [[1] * 7] * 6,
+    [[0, 1], [0]],
+    [[0], [0, 1]],
+    [[0, 1], [1, 0], [1, 0, 0]],
+    [[0] * 6, [0] * 7],
+    [[2]],
+    [[-1]],
+    [[100]],
+    [[-100]],
+    [[0, 1], [1, 2]],
+    [[0, 1], [-1, 1]],
+    [[3, 0], [0, 0]],
+)
+
+NO_COUNTS = (
+    ([], []),
+    ([], [0]),
+    ([0], []),
+    ([0] * 7, [0]),
+    ([0], [0] * 7),
+    ([0] * 7, [0] * 7),
+    ([0] * 8, [0] * 2),
+    ([1] * 6, [1] * 7),
+    ([1] * 7, [1] * 6),
+    ([-1], [0]),
+    ([0], [-1]),
+    ([1, -1], [0, 0]),
+    ([0, 0], [1, -1]),
+    ([2], [1]),
+    ([1], [2]),
+    ([3, 0], [1, 1]),
+    ([1, 1], [0, 3]),
+    ([3, 3], [2, 2, 3]),
+    ([7, 0], [1] * 6),
+    ([100], [1]),
+    ([1], [100]),
+    ([-100], [1]),
+    ([1], [-100]),
+)
+
+
+def all_boards(height, width):
+    """Every board of this size, in the order that the document tells."""
+    for cells in itertools.product((0, 1), repeat=height * width):
+        yield [list(cells[row * width:(row + 1) * width]) for row in range(height)]
+
+
+def marks(board):
+    """The counts of a board, each cell looked at by itself."""
+    rows = [0] * len(board)
+    columns = [0] * len(board[0])
+    for row in range(len(board)):
+        for column in range(len(board[0])):
+            if board[row][column] == 1:
+                rows[row] += 1
+                columns[column] += 1
+    return tuple(rows), tuple(columns)
+
+
+def boards_by_counts(height, width):
+    """A dict: counts, and all boards that have them in their order."""
+    found = {}
+    for board in all_boards(height, width):
+        found.setdefault(marks(board), []).append(board)
+    return found
+
+
+def all_counts(height, width):
+    """All well-formed counts for this size, those that no board has among them."""
+    for rows in itertools.product(range(width + 1), repeat=height):
+        for columns in itertools.product(range(height + 1), repeat=width):
+            yield rows, columns
+
+
+def boards_having(rows, columns):
+    """All boards that have the counts, in order, found by trying row after row."""
+    if not rows:
+        if not any(columns):
+            yield []
+        return
+    lines = [line for line in itertools.product((0, 1), repeat=len(columns)) if sum(line) == rows[0]]
+    for line in lines:
+        left = [want - cell for want, cell in zip(columns, line)]
+        if min(left) >= 0 and max(left) < len(rows):
+            for rest in boards_having(rows[1:], left):
+                yield [list(line)] + rest
