@@ -15,7 +15,6 @@ def is_row(row, width):
 
 
 def is_board(board):
-    """Whether this list of lists of whole numbers is a board."""
     if not is_sized(board) or not is_sized(board[0]):
         return False
     return all([is_row(row, len(board[0])) for row in board])
@@ -26,7 +25,6 @@ def are_within(numbers, most):
 
 
 def are_counts(rows, columns):
-    """Whether these two lists of whole numbers are counts."""
     if not is_sized(rows) or not is_sized(columns):
         return False
     return are_within(rows, len(columns)) and are_within(columns, len(rows))
@@ -47,7 +45,6 @@ def marks_in_column(board, column):
 
 
 def counts(board):
-    """The counts that the board has: a tuple of two lists, rows and columns."""
     need_board(board)
     rows = [sum(row) for row in board]
     columns = [marks_in_column(board, column) for column in range(len(board[0]))]

@@ -2,28 +2,28 @@
 
 
 class MarkError(ValueError):
-    """Any refusal."""
+    pass
 
 
 class NoBoard(MarkError):
-    """A list that is no board."""
+    pass
 
 
 class NoCounts(MarkError):
-    """Lists that are no counts."""
+    pass
 
 
 class NoNumber(MarkError):
-    """A number that no board of the counts has."""
+    pass
 
 
 class NoneSuch(MarkError):
-    """Counts that no board has."""
+    pass
 
 
 class NoExchange(MarkError):
-    """An exchange that can't be done, or that is none."""
+    pass
 
 
 class NotAlike(MarkError):
-    """Boards of unlike counts."""
+    pass

@@ -5,25 +5,24 @@ from markcounts.errors import NoNumber
 
 
 def row_choices(width, marks):
-    """All rows of so many cells and marks, in the order of the boards."""
     if marks < 0 or marks > width:
         return []
     if width == 0:
         return [[]]
+    # The rows come in the order of the boards, so those that begin with 0 stand ahead.
     unmarked = [[0] + rest for rest in row_choices(width - 1, marks)]
     marked = [[1] + rest for rest in row_choices(width - 1, marks - 1)]
     return unmarked + marked
 
 
 def columns_behind(columns, row):
-    """The marks that the columns still want behind this row."""
     return [wanted - cell for wanted, cell in zip(columns, row)]
 
 
 def boards_left(rows, columns, known):
-    """How many ways there are to fill these rows, none left as well, so that the columns come out."""
     if min(columns) < 0:
         return 0
+    # Behind the last row a filling counts only if no column wants a mark still.
     if len(rows) == 0:
         return 1 if max(columns) == 0 else 0
     # Exchanging columns changes no number of ways, so one answer serves all their orders.
@@ -35,13 +34,12 @@ def boards_left(rows, columns, known):
 
 
 def many(rows, columns):
-    """How many boards have these counts."""
     need_counts(rows, columns)
     return boards_left(rows, columns, {})
 
 
+# The number is nought or more here: one below would be taken for the first choice.
 def rows_at(rows, columns, number, known):
-    """The rows of the board with this number, which is nought or more."""
     if len(rows) == 0:
         return []
     for row in row_choices(len(columns), rows[0]):
@@ -54,7 +52,6 @@ def rows_at(rows, columns, number, known):
 
 
 def board_at(rows, columns, number):
-    """The board of this number among those that have the counts."""
     need_counts(rows, columns)
     if number < 0:
         raise NoNumber("no board has a number below nought")
@@ -62,7 +59,6 @@ def board_at(rows, columns, number):
 
 
 def number_of(board):
-    """The number of the board among those that have its counts."""
     told = counts(board)
     rows = told[0]
     columns = told[1]

@@ -67,6 +67,8 @@ class Language(unittest.TestCase):
             for node in nodes(path):
                 if isinstance(node, ast.stmt):
                     self.assertIsInstance(node, STATEMENTS)
+                if isinstance(node, ast.Expr) and node.lineno > 1:
+                    self.assertIsInstance(node.value, ast.Call)
                 if isinstance(node, ast.Assign):
                     self.assertEqual(len(node.targets), 1)
                 self.assertNotIsInstance(node, EXPRESSIONS_OUT)
