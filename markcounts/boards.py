@@ -49,3 +49,7 @@ def counts(board):
     rows = [sum(row) for row in board]
     columns = [marks_in_column(board, column) for column in range(len(board[0]))]
     return (rows, columns)
+
+
+def columns_behind(columns, row):
+    return [wanted - cell for wanted, cell in zip(columns, row)]

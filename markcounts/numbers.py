@@ -1,6 +1,6 @@
 """The boards that have counts, in their order: how many they are, and their numbers from nought."""
 
-from markcounts.boards import counts, need_counts
+from markcounts.boards import columns_behind, counts, need_counts
 from markcounts.errors import NoNumber
 
 
@@ -13,10 +13,6 @@ def row_choices(width, marks):
     unmarked = [[0] + rest for rest in row_choices(width - 1, marks)]
     marked = [[1] + rest for rest in row_choices(width - 1, marks - 1)]
     return unmarked + marked
-
-
-def columns_behind(columns, row):
-    return [wanted - cell for wanted, cell in zip(columns, row)]
 
 
 def boards_left(rows, columns, known):

@@ -1,6 +1,8 @@
 """What the tests share: a case that knows refusals, and boards gone through one by one."""
 
+import copy
 import itertools
+import random
 import unittest
 
 from markcounts import errors
@@ -24,6 +26,19 @@ class Case(unittest.TestCase):
         self.assertEqual([k for k in KINDS if isinstance(error, k)], [kind])
         for word in error.args:
             self.assertIsInstance(word, str, "an error keeps nothing that was handed in")
+
+    def unshared(self, *told):
+        lists = [one for thing in told for one in lists_within(thing)]
+        self.assertEqual(len({id(one) for one in lists}), len(lists), told)
+
+    def stays(self, ask, *given):
+        """What is handed in is the same behind the call, whether it answers or refuses."""
+        before = copy.deepcopy(given)
+        try:
+            ask(*given)
+        except errors.MarkError:
+            pass
+        self.assertEqual(given, before)
 
 
 NO_BOARDS = (
@@ -123,3 +138,40 @@ def boards_having(rows, columns):
         if min(left) >= 0 and max(left) < len(rows):
             for rest in boards_having(rows[1:], left):
                 yield [list(line)] + rest
+
+
+def lists_within(thing):
+    """Every list in what is told, itself among them, each as often as it stands there."""
+    if not isinstance(thing, (list, tuple)):
+        return []
+    inner = [one for part in thing for one in lists_within(part)]
+    return [thing] + inner if isinstance(thing, list) else inner
+
+
+def spread_boards(height, width, how_many):
+    """Boards of one size from all over, the same ones each time."""
+    draw = random.Random(how_many)
+    for number in range(how_many):
+        yield [[draw.randrange(2) for column in range(width)] for row in range(height)]
+
+
+def spread_counts(height, width, how_many):
+    """Counts of one size from all over, the same ones each time."""
+    draw = random.Random(how_many)
+    for number in range(how_many):
+        yield [draw.randrange(width + 1) for row in range(height)], [draw.randrange(height + 1) for row in range(width)]
+
+
+def level_counts(height, width, how_many):
+    """Counts whose rows want as much together as the columns do, so that some have boards and some have none."""
+    for rows, columns in spread_counts(height, width, how_many):
+        while sum(rows) > sum(columns):
+            rows[rows.index(max(rows))] -= 1
+        while sum(columns) > sum(rows):
+            columns[columns.index(max(columns))] -= 1
+        yield rows, columns
+
+
+def unlike(one, other):
+    """In how many cells two boards of one size differ."""
+    return sum(cell != there for row, line in zip(one, other) for cell, there in zip(row, line))

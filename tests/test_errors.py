@@ -13,6 +13,13 @@ class Errors(Case):
         for kind in KINDS:
             self.assertEqual(kind.__bases__, (errors.MarkError,), kind.__name__)
 
+    def test_each_is_a_mark_error_and_none_of_the_other_kinds(self):
+        for kind in KINDS:
+            error = kind("words")
+            self.assertIsInstance(error, errors.MarkError)
+            self.assertIsInstance(error, ValueError)
+            self.assertEqual([other for other in KINDS if isinstance(error, other)], [kind])
+
     def test_each_kind_bears_its_name(self):
         names = ["NoBoard", "NoCounts", "NoNumber", "NoneSuch", "NoExchange", "NotAlike"]
         self.assertEqual([kind.__name__ for kind in KINDS], names)

@@ -62,6 +62,25 @@ class Language(unittest.TestCase):
                     self.assertTrue(node.module.startswith("markcounts."))
                     self.assertNotIn("*", [name.name for name in node.names])
 
+    def test_imports_are_from_the_files_that_define(self):
+        for path in self.each():
+            for node in nodes(path):
+                if isinstance(node, ast.ImportFrom):
+                    source = PACKAGE / (node.module.split(".")[1] + ".py")
+                    defs = [there for there in nodes(source) if isinstance(there, (ast.FunctionDef, ast.ClassDef))]
+                    self.assertLessEqual({name.name for name in node.names}, {there.name for there in defs})
+
+    def test_no_two_files_draw_from_one_another(self):
+        drawn = {}
+        for path in self.each():
+            found = [node.module for node in nodes(path) if isinstance(node, ast.ImportFrom)]
+            drawn["markcounts." + path.stem] = set(found)
+        while drawn:
+            free = [name for name, found in drawn.items() if not found & set(drawn)]
+            self.assertTrue(free, drawn)
+            for name in free:
+                drawn.pop(name)
+
     def test_statements_and_expressions(self):
         for path in self.each():
             for node in nodes(path):
@@ -71,6 +90,12 @@ class Language(unittest.TestCase):
                     self.assertIsInstance(node.value, ast.Call)
                 if isinstance(node, ast.Assign):
                     self.assertEqual(len(node.targets), 1)
+                    self.assertNotIsInstance(node.targets[0], (ast.Tuple, ast.List))
+                if isinstance(node, ast.ListComp):
+                    self.assertEqual(len(node.generators), 1)
+                    self.assertLessEqual(len(node.generators[0].ifs), 1)
+                if isinstance(node, (ast.For, ast.While)):
+                    self.assertEqual(node.orelse, [])
                 self.assertNotIsInstance(node, EXPRESSIONS_OUT)
 
     def test_names(self):
