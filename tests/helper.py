@@ -92,6 +92,21 @@ NO_COUNTS = (
     ([1], [-100]),
 )
 
+# Counts that are well formed, but that no board has.
+NONE_HAS = (
+    ([1], [0]),
+    ([0], [1]),
+    ([1, 0], [0, 0]),
+    ([2, 2, 0], [3, 1, 0]),
+    ([3, 1, 0], [2, 2, 0]),
+    ([6, 0, 0, 0, 0, 0], [6, 0, 0, 0, 0, 0]),
+    ([6, 6, 6, 0, 0, 0], [4, 4, 4, 2, 2, 2]),
+    ([6] * 6, [0] * 6),
+    ([0] * 6, [6] * 6),
+)
+
+SMALL_SIZES = ((1, 1), (1, 2), (2, 1), (2, 2), (1, 6), (6, 1), (2, 3), (3, 2), (3, 3), (2, 4), (4, 2))
+
 
 def all_boards(height, width):
     """Every board of this size, in the order that the document tells."""

@@ -1,22 +1,11 @@
 import unittest
 
 from helper import (
-    NO_COUNTS, Case, all_counts, boards_by_counts, boards_having, level_counts, marks, spread_boards,
+    NO_COUNTS, NONE_HAS, SMALL_SIZES, Case, all_counts, boards_by_counts, boards_having, level_counts, marks,
+    spread_boards,
 )
 from markcounts.cells import kinds
 from markcounts.errors import NoCounts, NoneSuch
-
-NONE_HAS = (
-    ([1], [0]),
-    ([0], [1]),
-    ([1, 0], [0, 0]),
-    ([2, 2, 0], [3, 1, 0]),
-    ([3, 1, 0], [2, 2, 0]),
-    ([6, 0, 0, 0, 0, 0], [6, 0, 0, 0, 0, 0]),
-    ([6, 6, 6, 0, 0, 0], [4, 4, 4, 2, 2, 2]),
-    ([6] * 6, [0] * 6),
-    ([0] * 6, [6] * 6),
-)
 
 
 def kinds_among(boards):
@@ -31,10 +20,8 @@ def kinds_among(boards):
 
 
 class AgainstAllBoards(Case):
-    sizes = ((1, 1), (1, 2), (2, 1), (2, 2), (1, 6), (6, 1), (2, 3), (3, 2), (3, 3), (2, 4), (4, 2))
-
     def test_small_counts(self):
-        for height, width in self.sizes:
+        for height, width in SMALL_SIZES:
             found = boards_by_counts(height, width)
             for rows, columns in all_counts(height, width):
                 if (rows, columns) in found:

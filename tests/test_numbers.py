@@ -1,7 +1,9 @@
 import copy
 import unittest
 
-from helper import NO_BOARDS, NO_COUNTS, Case, all_counts, boards_by_counts, boards_having
+from helper import (
+    NO_BOARDS, NO_COUNTS, NONE_HAS, SMALL_SIZES, Case, all_counts, boards_by_counts, boards_having,
+)
 from markcounts.errors import NoBoard, NoCounts, NoNumber
 from markcounts.numbers import board_at, many, number_of
 
@@ -17,10 +19,8 @@ def lists_in(board):
 
 
 class SmallCounts(Case):
-    sizes = ((1, 1), (1, 2), (2, 1), (2, 2), (1, 6), (6, 1), (2, 3), (3, 2), (3, 3), (2, 4), (4, 2))
-
     def test_all_boards_gone_through(self):
-        for height, width in self.sizes:
+        for height, width in SMALL_SIZES:
             found = boards_by_counts(height, width)
             for rows, columns in all_counts(height, width):
                 self.hold(list(rows), list(columns), found.get((rows, columns), []))
@@ -98,24 +98,12 @@ class LargeCounts(Case):
 
 
 class CountsThatNoBoardHas(Case):
-    none_has = (
-        ([1], [0]),
-        ([0], [1]),
-        ([1, 0], [0, 0]),
-        ([2, 2, 0], [3, 1, 0]),
-        ([3, 1, 0], [2, 2, 0]),
-        ([6, 0, 0, 0, 0, 0], [6, 0, 0, 0, 0, 0]),
-        ([6, 6, 6, 0, 0, 0], [4, 4, 4, 2, 2, 2]),
-        ([6] * 6, [0] * 6),
-        ([0] * 6, [6] * 6),
-    )
-
     def test_many_tells_nought(self):
-        for rows, columns in self.none_has:
+        for rows, columns in NONE_HAS:
             self.assertEqual(many(rows, columns), 0, (rows, columns))
 
     def test_no_number_is_had(self):
-        for rows, columns in self.none_has:
+        for rows, columns in NONE_HAS:
             for number in (-1, 0, 1, THIRTY_FIGURES):
                 self.refused(NoNumber, board_at, rows, columns, number)
 
